@@ -1,0 +1,1 @@
+"""Pickline: changes picked from a main line to elder lines."""
