@@ -1,7 +1,7 @@
 """What questions about picks and faults are answered with, and whether an answer holds."""
 
 from pickline.rows import BACKS, LEANS, MENDS
-from pickline.rows import book_of, had, has_fault, is_plain, leant_on, row_of, stands
+from pickline.rows import book_of, had, has_fault, is_plain, lacked, leant_on, row_of, stands
 
 
 def copied(told):
@@ -17,6 +17,11 @@ def copied(told):
     if isinstance(told, Bar):
         return Bar(told.chain)
     return told
+
+
+def is_tree(told):
+    """Whether this is a tree; a field may hold anything by the time it is asked."""
+    return isinstance(told, (Either, Full, Bar))
 
 
 def leads(book, names, firsts, chain, barred):
@@ -62,9 +67,8 @@ class Lot(Answer):
         book = book_of(trunk)
         if not is_plain(book, change):
             return False
-        held = had(book, line)
         # All on which the change leans must be live, and nothing else helps: there is one lot.
-        needed = [name for name in leant_on(book, [change]) if name not in held]
+        needed = lacked(book, had(book, line), [change])
         return self.names == needed and not any([name in barred for name in needed])
 
 
@@ -95,7 +99,7 @@ class Mended(Answer):
 
     def shows(self, trunk, line, faults, barred):
         """Whether the names mend the line, and the tree closes."""
-        if not frees(book_of(trunk), line, self.names, faults, barred):
+        if not frees(book_of(trunk), line, self.names, faults, barred) or not is_tree(self.tree):
             return False
         return self.tree.closes(trunk, line, faults, barred, len(self.names))
 
@@ -111,7 +115,7 @@ class Unmended(Answer):
 
     def shows(self, trunk, line, faults, barred):
         """Whether the tree closes."""
-        return self.tree.closes(trunk, line, faults, barred)
+        return is_tree(self.tree) and self.tree.closes(trunk, line, faults, barred)
 
 
 class Either(Answer):
@@ -135,7 +139,7 @@ class Either(Answer):
         if [pair[0] for pair in self.pairs] != menders:
             return False
         for name, tree in self.pairs:
-            if not tree.closes(trunk, line, faults, barred, many, picked + [name]):
+            if not is_tree(tree) or not tree.closes(trunk, line, faults, barred, many, picked + [name]):
                 return False
         return True
 
@@ -151,9 +155,8 @@ class Full(Answer):
         if many is None:
             return False
         book = book_of(trunk)
-        held = had(book, line)
         picked = [] if chosen is None else chosen
-        return len([name for name in leant_on(book, picked) if name not in held]) >= many
+        return len(lacked(book, had(book, line), picked)) >= many
 
 
 class Bar(Answer):

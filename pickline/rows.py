@@ -3,13 +3,13 @@
 A book is a dict of a trunk's changes by their names, in the trunk's order.
 """
 
-from pickline.errors import BadLine, BadTrunk
+from pickline.errors import BadChange, BadLine, BadNames, BadTrunk
 
 MOST_LETTERS = 8
 MOST_CHANGES = 24
 MOST_PICKS = 40
 
-# Where the parts of a change stand in its tuple.
+# Where the parts of a change stand in its tuple; a line begins with its name, too.
 NAME = 0
 LEANS = 1
 BACKS = 2
@@ -42,6 +42,11 @@ def are_unlike_names(told):
 def is_plain(book, told):
     """Whether this is the name of a plain change of the book."""
     return is_name(told) and told in book and book[told][BACKS] is None
+
+
+def is_backing(book, told):
+    """Whether this is the name of a backing change of the book."""
+    return is_name(told) and told in book and book[told][BACKS] is not None
 
 
 def is_change(book, told):
@@ -97,21 +102,29 @@ def stands(book, row):
     return True
 
 
-def checked_trunk(trunk):
-    """The book of what was handed in as a trunk; BadTrunk where it is none."""
+def wrong_change(trunk):
+    """The number of the first change that is none with those ahead; None where this is a trunk."""
     if not isinstance(trunk, list) or not trunk:
-        raise BadTrunk(0)
+        return 0
     book = {}
     live = {}
     for place, change in enumerate(trunk):
         if place == MOST_CHANGES or not is_change(book, change):
-            raise BadTrunk(place)
+            return place
         name = change[NAME]
         book[name] = change
         if not follows(book, live, name):
-            raise BadTrunk(place)
+            return place
         put(book, live, name)
-    return book
+    return None
+
+
+def checked_trunk(trunk):
+    """The book of what was handed in as a trunk; BadTrunk where it is none."""
+    place = wrong_change(trunk)
+    if place is not None:
+        raise BadTrunk(place)
+    return book_of(trunk)
 
 
 def book_of(trunk):
@@ -143,6 +156,30 @@ def check_line(book, line):
         raise BadLine("no line of this trunk")
 
 
+def wrong_line(book, lines):
+    """The number of the first of a list that is no line, or has an earlier one's name; or None."""
+    names = []
+    for place, line in enumerate(lines):
+        if not is_line(book, line) or line[NAME] in names:
+            return place
+        names.append(line[NAME])
+    return None
+
+
+def check_lines(book, lines):
+    """BadLine where what was handed in is no list of lines of unlike names."""
+    if not isinstance(lines, list) or wrong_line(book, lines) is not None:
+        raise BadLine("no lines of this trunk")
+
+
+def check_pick(book, change, barred):
+    """BadChange where this is no plain change; BadNames where barred is no list of names, nor None."""
+    if not is_plain(book, change):
+        raise BadChange("no plain change of this trunk")
+    if barred is not None and not are_names(barred):
+        raise BadNames("barred is no list of names")
+
+
 def had(book, line):
     """The changes that a line has, in the trunk's order."""
     live = live_in(book, row_of(book, line))
@@ -158,6 +195,30 @@ def leant_on(book, names):
             for lean in book[name][LEANS]:
                 wanted[lean] = True
     return [name for name in book if name in wanted]
+
+
+def lacked(book, held, names):
+    """What one who holds these lacks of the names and all that comes with them."""
+    return [name for name in leant_on(book, names) if name not in held]
+
+
+def chains_to(book, held, barred):
+    """Of each change from which leanings lead to a barred one, over none that is held: a chain."""
+    chains = {}
+    if barred is None:
+        return chains
+    # What is leant on stands ahead in the trunk, so its chain is known by then.
+    for name in book:
+        if name in held:
+            continue
+        if name in barred:
+            chains[name] = [name]
+            continue
+        for lean in book[name][LEANS]:
+            if lean in chains:
+                chains[name] = [name] + chains[lean]
+                break
+    return chains
 
 
 def has_fault(book, names, fault):

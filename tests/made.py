@@ -6,6 +6,7 @@ a row and by trying all ways, where the program walks and counts.
 
 import itertools
 import random
+import re
 
 # Among the names are words that texts have, too.
 WORDS = ("a", "change", "back", "line", "abcdefgh", "brings", "mends", "b", "c", "zz", "on", "none",
@@ -119,6 +120,90 @@ def chain_to(trunk, line, name, barred):
     return None
 
 
+def is_chain(trunk, line, name, chain, barred):
+    """Whether this is a chain of point 5 from the change of this name."""
+    held = had(trunk, line)
+    if not chain or chain[0] != name or chain[-1] not in barred:
+        return False
+    if any(by_name(trunk, link) is None or link in held for link in chain):
+        return False
+    return all(lean in by_name(trunk, link)[1] for link, lean in zip(chain, chain[1:]))
+
+
+def is_mend(trunk, line, names, faults, barred):
+    """Whether these names are such as point 8 tells, be they as few as can be or not."""
+    if names != [change[0] for change in trunk if change[0] in names]:
+        return False
+    if any(name in barred or by_name(trunk, name)[2] is not None for name in names):
+        return False
+    row = row_of(trunk, line) + names
+    return stands(trunk, row) and not any(has_fault(trunk, live(trunk, row), fault) for fault in faults)
+
+
+def wrong_change(trunk):
+    """The number of the first of many tuples of five that is no change with those ahead, or None."""
+    for at, (name, leans, backs, brings, mends) in enumerate(trunk):
+        ahead = {change[0]: change for change in trunk[:at]}
+        named = [name] + leans + brings + mends + ([] if backs is None else [backs])
+        if at == 24 or not all(re.fullmatch("[a-z]{1,8}", word) for word in named) or name in ahead:
+            return at
+        if any(len(set(words)) < len(words) for words in (leans, brings, mends)):
+            return at
+        used = leans + ([] if backs is None else [backs])
+        if any(word not in ahead or ahead[word][2] is not None for word in used):
+            return at
+        if backs is not None and brings + mends:
+            return at
+        if not follows(trunk[:at + 1], list(ahead), name):
+            return at
+    return None
+
+
+def wrong_line(trunk, lines):
+    """The number of the first of many triples that is no line, or has an earlier one's name; or None."""
+    names = [change[0] for change in trunk]
+    for at, (name, many, picks) in enumerate(lines):
+        if not re.fullmatch("[a-z]{1,8}", name) or name in [line[0] for line in lines[:at]]:
+            return at
+        if not 0 <= many <= len(trunk) or len(picks) > 40 or not all(pick in names for pick in picks):
+            return at
+        if not stands(trunk, row_of(trunk, lines[at])):
+            return at
+    return None
+
+
+CHANGE = re.compile("change ([a-z]+)(?:: on ([a-z]+(?: [a-z]+)*))?(?:: back ([a-z]+))?"
+                    "(?:: brings ([a-z]+(?: [a-z]+)*))?(?:: mends ([a-z]+(?: [a-z]+)*))?")
+LINE = re.compile("line ([a-z]+) (0|[1-9][0-9]*)(?:: ([a-z]+(?: [a-z]+)*))?")
+
+
+def read(text):
+    """The trunk of a text, or the number of the first row that is none."""
+    rows = text.split("\n")
+    told = [CHANGE.fullmatch(row) for row in rows]
+    fine = (told + [None]).index(None)
+    trunk = []
+    for row in told[:fine]:
+        on, brings, mends = [(row.group(part) or "").split() for part in (2, 4, 5)]
+        trunk.append((row.group(1), on, row.group(3), brings, mends))
+    wrong = wrong_change(trunk)
+    if wrong is None and fine < len(rows):
+        return fine
+    return trunk if wrong is None else wrong
+
+
+def read_lines(trunk, text):
+    """The lines of a text, or the number of the first row that is none."""
+    rows = text.split("\n") if text else []
+    told = [LINE.fullmatch(row) for row in rows]
+    fine = (told + [None]).index(None)
+    lines = [(row.group(1), int(row.group(2)), (row.group(3) or "").split()) for row in told[:fine]]
+    wrong = wrong_line(trunk, lines)
+    if wrong is None and fine < len(rows):
+        return fine
+    return lines if wrong is None else wrong
+
+
 def made_change(rng, trunk, name, faults):
     ahead = live(trunk, [word[0] for word in trunk])
     leant = {lean for word in ahead for lean in by_name(trunk, word)[1]}
@@ -148,6 +233,20 @@ def made_line(rng, trunk, name, most):
             picks.append(rng.choice(free))
             row.append(picks[-1])
     return (name, many, picks)
+
+
+def made_barred(rng, trunk, line):
+    """No, few or many barred names: of the trunk, live ones, such as aren't there."""
+    names = [change[0] for change in trunk]
+    many = rng.choice((0, 0, 1, 1, 2, len(names) // 3))
+    barred = rng.sample(names, min(many, len(names)))
+    barred += rng.choice(([], [], ["nowhere"], had(trunk, line)[:2]))
+    rng.shuffle(barred)
+    return barred
+
+
+def made_lines(rng, trunk, many, most):
+    return [made_line(rng, trunk, name, most) for name in rng.sample(WORDS, many)]
 
 
 def made(seeds, sizes=tuple(range(1, 25)), most=16, faults=FAULTS):

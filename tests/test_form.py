@@ -16,10 +16,26 @@ INTERFACE = {
                   "Barring", "NoDeed"),
     "trunks.py": ("has", "hangs", "editions", "apart"),
     "answers.py": ("Answer", "Lot", "Barred", "Mended", "Unmended", "Either", "Full", "Bar"),
+    "picking.py": ("pick", "reach", "mend"),
+    "texts.py": ("written", "read", "written_lines", "read_lines"),
+    "board.py": ("Board",),
+}
+METHODS = {
+    "Lot": {"shows": "self, trunk, line, change, barred"},
+    "Barred": {"shows": "self, trunk, line, change, barred"},
+    "Mended": {"shows": "self, trunk, line, faults, barred"},
+    "Unmended": {"shows": "self, trunk, line, faults, barred"},
+    "Either": {"closes": "self, trunk, line, faults, barred, many=None, chosen=None"},
+    "Full": {"closes": "self, trunk, line, faults, barred, many=None, chosen=None"},
+    "Bar": {"closes": "self, trunk, line, faults, barred, many=None, chosen=None"},
+    "Board": {"__init__": "self, trunk", "cut": "self, name, many", "pick": "self, name, change, barred=None",
+              "back": "self, name, change", "undo": "self", "lines": "self", "has": "self, name"},
 }
 ARGUMENTS = {
     "has": "trunk, line", "hangs": "trunk, line, change", "editions": "trunk, line, one, other",
-    "apart": "trunk, line, other",
+    "apart": "trunk, line, other", "pick": "trunk, line, change, barred=None", "reach": "trunk, lines, fault",
+    "mend": "trunk, line, faults, barred=None", "written": "trunk", "read": "text",
+    "written_lines": "trunk, lines", "read_lines": "trunk, text",
 }
 
 
@@ -81,6 +97,30 @@ class Form(unittest.TestCase):
                 self.assertIn(word, made)
                 if word in ARGUMENTS:
                     self.assertEqual(ast.unparse(made[word].args), ARGUMENTS[word])
+                if word in METHODS:
+                    found = {node.name: ast.unparse(node.args) for node in made[word].body
+                             if isinstance(node, ast.FunctionDef)}
+                    for method, arguments in METHODS[word].items():
+                        self.assertEqual(found.get(method), arguments, (word, method))
+
+    def test_a_name_is_a_method_or_an_attribute(self):
+        methods, attributes = set(), set()
+        for path, text, tree in self.each():
+            for node in ast.walk(tree):
+                if isinstance(node, ast.ClassDef):
+                    methods.update(part.name for part in node.body if isinstance(part, ast.FunctionDef))
+                if isinstance(node, ast.Attribute) and isinstance(node.ctx, ast.Store):
+                    attributes.add(node.attr)
+        self.assertEqual(methods & attributes, set())
+
+    def test_no_local_name_is_an_import_or_a_class(self):
+        for path, text, tree in self.each():
+            bound = [name.name for node in tree.body if isinstance(node, ast.ImportFrom) for name in node.names]
+            bound += [node.name for node in tree.body if isinstance(node, (ast.ClassDef, ast.FunctionDef))]
+            self.assertEqual(len(bound), len(set(bound)), path)
+            local = [node.id for node in ast.walk(tree) if isinstance(node, ast.Name) and isinstance(node.ctx, ast.Store)]
+            local += [node.arg for node in ast.walk(tree) if isinstance(node, ast.arg)]
+            self.assertEqual([name for name in local if name in bound], [], path)
 
 
 if __name__ == "__main__":
